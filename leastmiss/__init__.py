@@ -1,0 +1,1 @@
+"""Rows laid to marks, and papers that show that none misses less."""
