@@ -2,6 +2,8 @@
 
 from leastmiss.errors import NoNumber
 
+NOUGHT = (0, 1)
+
 
 def common_divisor(one, other):
     while other != 0:
@@ -58,7 +60,7 @@ def size_of(one):
 
 
 def total_of(some):
-    total = (0, 1)
+    total = NOUGHT
     for one in some:
         total = plus(total, one)
     return total
