@@ -6,25 +6,27 @@ from leastmiss.fractions import NOUGHT, minus, product, quotient
 
 def solved(table, right):
     rows = [list(row) + [value] for row, value in zip(table, right)]
-    for column in range(len(rows)):
-        bring_up(rows, column)
-        clear_others(rows, column)
+    for column in range(len(right)):
+        rows = cleared(rows, column)
     return [row[-1] for row in rows]
 
 
-def bring_up(rows, column):
+def cleared(rows, column):
+    spot = leading_spot(rows, column)
+    found = rows[spot]
+    leader = [quotient(one, found[column]) for one in found]
+    others = [without(row, leader, column) for row in rows[:spot] + rows[spot + 1:]]
+    return others[:column] + [leader] + others[column:]
+
+
+def leading_spot(rows, column):
+    # The rows ahead lead other columns already.
     spots = [spot for spot in range(column, len(rows)) if rows[spot][column] != NOUGHT]
-    # With nothing left to lead this column, no list or many lists would do.
+    # With none left to lead this one, no list or many lists would do.
     if len(spots) == 0:
         raise NoAnswer("there is not just one answer")
-    found = rows[spots[0]]
-    rows[spots[0]] = rows[column]
-    rows[column] = [quotient(one, found[column]) for one in found]
+    return spots[0]
 
 
-def clear_others(rows, column):
-    leader = rows[column]
-    for spot in range(len(rows)):
-        times = rows[spot][column]
-        if spot != column and times != NOUGHT:
-            rows[spot] = [minus(one, product(times, led)) for one, led in zip(rows[spot], leader)]
+def without(row, leader, column):
+    return [minus(one, product(row[column], led)) for one, led in zip(row, leader)]

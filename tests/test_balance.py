@@ -1,3 +1,4 @@
+import unittest
 from fractions import Fraction
 from itertools import combinations
 
@@ -178,3 +179,7 @@ class NothingChangesTest(SumCase):
                 first[0][0] = (77, 1)
                 first[1].clear()
                 self.assertEqual(deed(marks), kept)
+
+
+if __name__ == "__main__":
+    unittest.main()

@@ -1,3 +1,4 @@
+import unittest
 from fractions import Fraction
 from itertools import combinations
 
@@ -332,3 +333,7 @@ class NothingChangesTest(BendCase):
                     numbers, pulls = list(kept[0]), list(kept[1])
                     bend_shown(kind, marks, numbers, pulls)
                     self.assertEqual((marks, numbers, pulls), (FIVE[:count], kept[0], kept[1]))
+
+
+if __name__ == "__main__":
+    unittest.main()

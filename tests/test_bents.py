@@ -1,3 +1,4 @@
+import unittest
 from fractions import Fraction
 
 from leastmiss.bents import bent_through, height_at, is_even, row_of
@@ -217,3 +218,7 @@ class EvenTest(Case):
             is_even(marks, pulls, bend)
         self.assertEqual(marks, kept)
         self.assertEqual(pulls, [(1, 1), (-2, 1), (1, 1)])
+
+
+if __name__ == "__main__":
+    unittest.main()

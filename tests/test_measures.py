@@ -1,3 +1,4 @@
+import unittest
 from fractions import Fraction
 
 from leastmiss.errors import NoKind
@@ -269,3 +270,7 @@ class FairOfAnyKindTest(FairCase):
             pulls[1] = (77, 1)
             self.assert_not_fair(kind, row, pulls, marks)
             self.assert_fair(kind, row, kept, marks)
+
+
+if __name__ == "__main__":
+    unittest.main()

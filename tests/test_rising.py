@@ -1,3 +1,4 @@
+import unittest
 from fractions import Fraction
 
 from leastmiss.errors import NoKind
@@ -325,3 +326,7 @@ class RiseShownTest(RiseCase):
             holds_up(row, pulls)
             rise_shown(kind, marks, row, pulls)
             self.assertEqual((marks, row, pulls), (FIVE, kept[0], kept[1]))
+
+
+if __name__ == "__main__":
+    unittest.main()

@@ -1,3 +1,4 @@
+import unittest
 from fractions import Fraction
 from itertools import permutations
 
@@ -121,3 +122,7 @@ class SolvedTest(Case):
         table = whole([[0, 2], [0, 4]])
         self.assert_refused(NoAnswer, solved, table, right[:2])
         self.assertEqual(table, whole([[0, 2], [0, 4]]))
+
+
+if __name__ == "__main__":
+    unittest.main()
